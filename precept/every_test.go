@@ -1,0 +1,209 @@
+package precept_test
+
+import (
+	"fmt"
+	"sort"
+	"strings"
+	"testing"
+
+	"precept/api"
+	"precept/precept"
+)
+
+// script: calls by a short rule, the same each time for the same seed.
+type script struct{ state uint32 }
+
+func (s *script) pick(n int) int {
+	s.state = s.state*1664525 + 1013904223
+	return int(s.state>>8) % n
+}
+
+// text: mostly a fact or a cell, sometimes neither.
+func (s *script) text(length int) string {
+	cell := string("abcdef"[s.pick(6)]) + string("0123456789"[s.pick(10)])
+	fact := cell + string("0123456789"[s.pick(10)])
+	if s.pick(8) == 0 {
+		return []string{"", "a", "g00", "a3x", "a370", "\xff\xff", strings.Repeat("a", 5000)}[s.pick(7)]
+	}
+	return fact[:length]
+}
+
+// model: what the document says of sessions, with all of Go.
+type model struct {
+	last int
+	open map[int]map[string]string
+}
+
+func (m *model) openOne() string {
+	if len(m.open) >= 8 {
+		return fmt.Sprint(0, api.ErrOpen)
+	}
+	m.last++
+	m.open[m.last] = map[string]string{}
+	return fmt.Sprint(m.last, api.OK)
+}
+
+func (m *model) write(session int, text string, length int) string {
+	facts, ok := m.open[session]
+	if !ok {
+		return fmt.Sprint(api.ErrSession)
+	}
+	if len(text) != length || text[0] < 'a' || text[0] > 'f' || strings.Trim(text[1:], "0123456789") != "" {
+		return fmt.Sprint(api.ErrFact)
+	}
+	delete(facts, text[:2])
+	if length == 3 {
+		facts[text[:2]] = text[2:]
+	}
+	return fmt.Sprint(api.OK)
+}
+
+func (m *model) view(session int) string {
+	facts, ok := m.open[session]
+	if !ok {
+		return fmt.Sprint("", api.ErrSession)
+	}
+	var list []string
+	for cell, value := range facts {
+		list = append(list, cell+value)
+	}
+	sort.Strings(list)
+	return fmt.Sprint(strings.Join(list, ""), api.OK)
+}
+
+func (m *model) abort(session int) string {
+	if _, ok := m.open[session]; !ok {
+		return fmt.Sprint(api.ErrSession)
+	}
+	delete(m.open, session)
+	return fmt.Sprint(api.OK)
+}
+
+// step: one call of the script, what the engine answers and what the model does.
+func step(s *script, x *precept.Engine, m *model) (call, got, want string) {
+	session := m.last + 2 - s.pick(12)
+	switch kind := s.pick(16); {
+	case kind < 2:
+		n, e := x.Open()
+		return "Open", fmt.Sprint(n, e), m.openOne()
+	case kind < 9:
+		text := s.text(3)
+		return fmt.Sprintf("Put(%d, %q)", session, text), fmt.Sprint(x.Put(session, text)), m.write(session, text, 3)
+	case kind < 12:
+		text := s.text(2)
+		return fmt.Sprintf("Clear(%d, %q)", session, text), fmt.Sprint(x.Clear(session, text)), m.write(session, text, 2)
+	case kind < 15:
+		v, e := x.View(session)
+		return fmt.Sprintf("View(%d)", session), fmt.Sprint(v, e), m.view(session)
+	}
+	return fmt.Sprintf("Abort(%d)", session), fmt.Sprint(x.Abort(session)), m.abort(session)
+}
+
+// play: the answers of some calls, one behind the other.
+func play(t *testing.T, s *script, x *precept.Engine, m *model, calls int) []string {
+	t.Helper()
+	var answers []string
+	for i := 0; i < calls; i++ {
+		call, got, want := step(s, x, m)
+		if got != want {
+			t.Fatalf("P4, P5: call %d, %.60s = %q, want %q", i, call, got, want)
+		}
+		answers = append(answers, got)
+	}
+	return answers
+}
+
+func newModel() *model { return &model{open: map[int]map[string]string{}} }
+
+func TestP1P5ManyCalls(t *testing.T) {
+	for seed := uint32(1); seed <= 20; seed++ {
+		play(t, &script{seed}, engine(t), newModel(), 3000)
+	}
+}
+
+func TestP1NewAtAllTextsAndNumbers(t *testing.T) {
+	s := &script{7}
+	const bytes = "5:axy,!<=#>+-.;^~_0wz\x00\xff"
+	for i := 0; i < 20000; i++ {
+		text := make([]byte, s.pick(60))
+		for j := range text {
+			text[j] = bytes[s.pick(len(bytes))]
+		}
+		for _, room := range append([]int{9}, extremes...) {
+			x, e, place := precept.New(string(text), room)
+			if (x == nil) != (e != api.OK) {
+				t.Fatalf("P1: New(%q, %d) = %v, %d", text, room, x != nil, e)
+			}
+			if place < 0 || place > len(text) || e == api.OK && place != 0 {
+				t.Fatalf("P1: New(%q, %d): place %d", text, room, place)
+			}
+		}
+	}
+}
+
+func TestP2TheSameCallsHaveTheSameAnswers(t *testing.T) {
+	alone := play(t, &script{3}, engine(t), newModel(), 2000)
+	x, y := engine(t), engine(t)
+	sx, mx, sy, my := &script{3}, newModel(), &script{4}, newModel()
+	for i := range alone {
+		if got := play(t, sx, x, mx, 1); got[0] != alone[i] {
+			t.Fatalf("P2: call %d beside another engine = %q, want %q", i, got[0], alone[i])
+		}
+		play(t, sy, y, my, 1+i%3)
+	}
+}
+
+// picture: what all sessions see, up to a number.
+func picture(x *precept.Engine, last int) string {
+	text := ""
+	for n := 1; n <= last; n++ {
+		v, e := x.View(n)
+		text += fmt.Sprint(v, e, ";")
+	}
+	return text
+}
+
+func TestP2RefusedCallsAndViewsChangeNothing(t *testing.T) {
+	x := engine(t)
+	for i := 1; i <= 8; i++ {
+		opens(t, x, i)
+		answers(t, "P5: Put", x.Put(i, "a37"), api.OK)
+	}
+	ahead := picture(x, 10)
+	answers(t, "P5: Put", x.Put(1, "a3"), api.ErrFact)
+	answers(t, "P5: Put", x.Put(1, "a3x"), api.ErrFact)
+	answers(t, "P5: Put", x.Put(1, "a312"), api.ErrFact)
+	answers(t, "P5: Clear", x.Clear(1, "a37"), api.ErrFact)
+	answers(t, "P5: Clear", x.Clear(1, "a"), api.ErrFact)
+	for _, n := range append([]int{9}, extremes...) {
+		notOpen(t, x, n)
+	}
+	if _, e := x.Open(); e != api.ErrOpen {
+		t.Errorf("P4: Open = %d", e)
+	}
+	x.Kept()
+	if _, e := x.Matches(1); e != api.OK {
+		t.Errorf("P2: Matches = %d", e)
+	}
+	if behind := picture(x, 10); behind != ahead {
+		t.Errorf("P2: %s, want %s", behind, ahead)
+	}
+	answers(t, "P5: Abort", x.Abort(8), api.OK)
+	opens(t, x, 9)
+}
+
+func TestP2NewLeavesEnginesAlone(t *testing.T) {
+	x := engine(t)
+	opens(t, x, 1)
+	answers(t, "P5: Put", x.Put(1, "c55"), api.OK)
+	for _, rules := range []string{"", "5:axy>.;", "5:axy>"} {
+		y, e, _ := precept.New(rules, 9)
+		if e == api.OK {
+			opens(t, y, 1)
+			answers(t, "P5: Clear", y.Clear(1, "c5"), api.OK)
+			answers(t, "P5: Abort", y.Abort(1), api.OK)
+		}
+	}
+	sees(t, x, 1, "c55")
+	opens(t, x, 2)
+}
