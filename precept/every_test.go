@@ -2,6 +2,7 @@ package precept_test
 
 import (
 	"fmt"
+	"maps"
 	"sort"
 	"strings"
 	"testing"
@@ -28,10 +29,17 @@ func (s *script) text(length int) string {
 	return fact[:length]
 }
 
-// model: what the document says of sessions, with all of Go.
+// model: what the document says of sessions and commits, with all of Go.
 type model struct {
-	last int
-	open map[int]map[string]string
+	last    int
+	open    map[int]*opened
+	commits []map[string]string // the first one has the stamp 1
+}
+
+// opened: an open session. A cell that was emptied has the text "".
+type opened struct {
+	snapshot int
+	writes   map[string]string
 }
 
 func (m *model) openOne() string {
@@ -39,33 +47,37 @@ func (m *model) openOne() string {
 		return fmt.Sprint(0, api.ErrOpen)
 	}
 	m.last++
-	m.open[m.last] = map[string]string{}
+	m.open[m.last] = &opened{len(m.commits), map[string]string{}}
 	return fmt.Sprint(m.last, api.OK)
 }
 
 func (m *model) write(session int, text string, length int) string {
-	facts, ok := m.open[session]
+	o, ok := m.open[session]
 	if !ok {
 		return fmt.Sprint(api.ErrSession)
 	}
 	if len(text) != length || text[0] < 'a' || text[0] > 'f' || strings.Trim(text[1:], "0123456789") != "" {
 		return fmt.Sprint(api.ErrFact)
 	}
-	delete(facts, text[:2])
-	if length == 3 {
-		facts[text[:2]] = text[2:]
-	}
+	o.writes[text[:2]] = text[2:]
 	return fmt.Sprint(api.OK)
 }
 
 func (m *model) view(session int) string {
-	facts, ok := m.open[session]
+	o, ok := m.open[session]
 	if !ok {
 		return fmt.Sprint("", api.ErrSession)
 	}
+	facts := map[string]string{}
+	for _, commit := range m.commits[:o.snapshot] {
+		maps.Copy(facts, commit)
+	}
+	maps.Copy(facts, o.writes)
 	var list []string
 	for cell, value := range facts {
-		list = append(list, cell+value)
+		if value != "" {
+			list = append(list, cell+value)
+		}
 	}
 	sort.Strings(list)
 	return fmt.Sprint(strings.Join(list, ""), api.OK)
@@ -79,11 +91,31 @@ func (m *model) abort(session int) string {
 	return fmt.Sprint(api.OK)
 }
 
+func (m *model) commit(session int) string {
+	o, ok := m.open[session]
+	if !ok {
+		return fmt.Sprint(0, api.ErrSession)
+	}
+	delete(m.open, session)
+	if len(o.writes) == 0 {
+		return fmt.Sprint(0, api.OK)
+	}
+	for _, commit := range m.commits[o.snapshot:] {
+		for cell := range o.writes {
+			if _, ok := commit[cell]; ok {
+				return fmt.Sprint(0, api.ErrConflict)
+			}
+		}
+	}
+	m.commits = append(m.commits, o.writes)
+	return fmt.Sprint(len(m.commits), api.OK)
+}
+
 // step: one call of the script, what the engine answers and what the model does.
 func step(s *script, x *precept.Engine, m *model) (call, got, want string) {
 	session := m.last + 2 - s.pick(12)
-	switch kind := s.pick(16); {
-	case kind < 2:
+	switch kind := s.pick(18); {
+	case kind < 3:
 		n, e := x.Open()
 		return "Open", fmt.Sprint(n, e), m.openOne()
 	case kind < 9:
@@ -95,6 +127,9 @@ func step(s *script, x *precept.Engine, m *model) (call, got, want string) {
 	case kind < 15:
 		v, e := x.View(session)
 		return fmt.Sprintf("View(%d)", session), fmt.Sprint(v, e), m.view(session)
+	case kind < 17:
+		n, e := x.Commit(session)
+		return fmt.Sprintf("Commit(%d)", session), fmt.Sprint(n, e), m.commit(session)
 	}
 	return fmt.Sprintf("Abort(%d)", session), fmt.Sprint(x.Abort(session)), m.abort(session)
 }
@@ -106,18 +141,28 @@ func play(t *testing.T, s *script, x *precept.Engine, m *model, calls int) []str
 	for i := 0; i < calls; i++ {
 		call, got, want := step(s, x, m)
 		if got != want {
-			t.Fatalf("P4, P5: call %d, %.60s = %q, want %q", i, call, got, want)
+			t.Fatalf("P4 to P6: call %d, %.60s = %q, want %q", i, call, got, want)
 		}
 		answers = append(answers, got)
 	}
 	return answers
 }
 
-func newModel() *model { return &model{open: map[int]map[string]string{}} }
+func newModel() *model { return &model{open: map[int]*opened{}} }
 
-func TestP1P5ManyCalls(t *testing.T) {
-	for seed := uint32(1); seed <= 20; seed++ {
-		play(t, &script{seed}, engine(t), newModel(), 3000)
+// longest: of so many calls less than MaxRoom are writes, so that there is
+// room for the versions, whatever the script.
+const longest = api.MaxRoom
+
+func TestP1P6ManyCalls(t *testing.T) {
+	seen := map[string]int{}
+	for seed := uint32(1); seed <= 60; seed++ {
+		for _, answer := range play(t, &script{seed}, roomy(t), newModel(), longest) {
+			seen[answer]++
+		}
+	}
+	if conflict := fmt.Sprint(0, api.ErrConflict); seen[conflict] < 100 {
+		t.Errorf("only %d conflicts: the scripts are too tame", seen[conflict])
 	}
 }
 
@@ -142,14 +187,16 @@ func TestP1NewAtAllTextsAndNumbers(t *testing.T) {
 }
 
 func TestP2TheSameCallsHaveTheSameAnswers(t *testing.T) {
-	alone := play(t, &script{3}, engine(t), newModel(), 2000)
-	x, y := engine(t), engine(t)
+	alone := play(t, &script{3}, roomy(t), newModel(), longest)
+	x, y := roomy(t), roomy(t)
 	sx, mx, sy, my := &script{3}, newModel(), &script{4}, newModel()
 	for i := range alone {
 		if got := play(t, sx, x, mx, 1); got[0] != alone[i] {
 			t.Fatalf("P2: call %d beside another engine = %q, want %q", i, got[0], alone[i])
 		}
-		play(t, sy, y, my, 1+i%3)
+		if i%3 > 0 {
+			play(t, sy, y, my, 1)
+		}
 	}
 }
 

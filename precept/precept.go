@@ -6,6 +6,7 @@ import (
 	"precept/cells"
 	"precept/ruleset"
 	"precept/sessions"
+	"precept/versions"
 )
 
 // Engine is the rules, the versions of all cells, and the sessions.
@@ -14,6 +15,7 @@ type Engine struct {
 	room     int
 	opened   int // the number of the session that was opened last
 	sessions [api.MaxOpen]sessions.Session
+	versions versions.Store
 }
 
 // New makes an engine (P3).
@@ -54,7 +56,7 @@ func (x *Engine) Open() (int, api.Errno) {
 		return 0, api.ErrOpen
 	}
 	x.opened++
-	*place = sessions.Session{Number: x.opened}
+	*place = sessions.Session{Number: x.opened, Snapshot: x.versions.Latest}
 	return x.opened, api.OK
 }
 
@@ -92,7 +94,8 @@ func (x *Engine) View(session int) (string, api.Errno) {
 	if s == nil {
 		return "", api.ErrSession
 	}
-	return s.View(), api.OK
+	states := x.versions.At(s.Snapshot)
+	return s.View(states), api.OK
 }
 
 // Abort ends a session (P5).
@@ -105,13 +108,23 @@ func (x *Engine) Abort(session int) api.Errno {
 	return api.OK
 }
 
-// Commit ends a session and makes its writes everybody's (P6, P7, P11).
-// Of these it answers nothing yet.
+// Commit ends a session and makes its writes everybody's (P6, P7). How much
+// room there is it does not ask yet.
 func (x *Engine) Commit(session int) (int, api.Errno) {
-	if x.find(session) == nil {
+	s := x.find(session)
+	if s == nil {
 		return 0, api.ErrSession
 	}
-	return 0, api.OK
+	ended := *s
+	*s = sessions.Session{}
+	if !ended.HasWrites() {
+		return 0, api.OK
+	}
+	if x.versions.Conflicts(ended.Writes, ended.Snapshot) {
+		return 0, api.ErrConflict
+	}
+	number := x.versions.Commit(ended.Writes)
+	return number, api.OK
 }
 
 // Matches tells the open instantiations (P8). Of these it answers nothing yet.

@@ -3,52 +3,53 @@ package sessions
 
 import "precept/cells"
 
-// What a session did to a cell. To empty a cell is a write, even if the cell
-// was empty before, so it is told apart from no write at all.
-const (
-	untouched = 0
-	emptied   = 1
-	filled    = 2
-)
-
-// write is a session's last write to a cell.
-type write struct {
-	kind  int
-	value int
-}
-
-// Session is one session. Sessions are numbered from 1 on: the number 0 says
+// Session is one session: its number, the stamp that is its snapshot, and its
+// last write to each cell. Sessions are numbered from 1 on: the number 0 says
 // that none is open here.
 type Session struct {
-	Number int
-	writes [cells.Count]write
+	Number   int
+	Snapshot int
+	Writes   [cells.Count]cells.Write
 }
 
 // Put writes a value to a cell.
 func (s *Session) Put(cell int, value int) {
-	s.record(cell, write{kind: filled, value: value})
+	s.record(cell, cells.State{Filled: true, Value: value})
 }
 
 // Clear writes to a cell that it is empty.
 func (s *Session) Clear(cell int) {
-	s.record(cell, write{kind: emptied})
+	s.record(cell, cells.State{})
 }
 
-func (s *Session) record(cell int, w write) {
-	if cell < 0 || cell >= len(s.writes) {
+func (s *Session) record(cell int, state cells.State) {
+	if cell < 0 || cell >= len(s.Writes) {
 		return
 	}
-	s.writes[cell] = w
+	s.Writes[cell] = cells.Write{Made: true, State: state}
+}
+
+// HasWrites tells whether the session wrote anything.
+func (s *Session) HasWrites() bool {
+	for cell := 0; cell < len(s.Writes); cell++ {
+		if s.Writes[cell].Made {
+			return true
+		}
+	}
+	return false
 }
 
 // View writes the facts that the session sees, in the order of their cells.
-// There are no versions yet: a cell that the session left untouched is empty.
-func (s *Session) View() string {
+// What the cells have at its snapshot is handed in.
+func (s *Session) View(states [cells.Count]cells.State) string {
 	text := ""
-	for cell := 0; cell < len(s.writes); cell++ {
-		last := s.writes[cell]
-		if last.kind == filled {
-			text += cells.WriteFact(cell, last.value)
+	for cell := 0; cell < len(states); cell++ {
+		seen := states[cell]
+		if s.Writes[cell].Made {
+			seen = s.Writes[cell].State
+		}
+		if seen.Filled {
+			text += cells.WriteFact(cell, seen.Value)
 		}
 	}
 	return text
