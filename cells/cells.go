@@ -49,10 +49,3 @@ func ReadFact(text string) (int, int, bool) {
 	}
 	return cell, value, true
 }
-
-// WriteFact writes a fact, of a cell's number and its value.
-func WriteFact(cell int, value int) string {
-	class := byte('a' + cell/Digits)
-	digit := byte('0' + cell%Digits)
-	return string([]byte{class, digit, byte('0' + value)})
-}

@@ -32,8 +32,12 @@ func TestFactsAreReadAsTheyAreWritten(t *testing.T) {
 			if c, v, ok := ReadFact(fact); c != cell || v != value || !ok {
 				t.Errorf("ReadFact(%q) = %d, %d, %v", fact, c, v, ok)
 			}
-			if got := WriteFact(cell, value); got != fact {
-				t.Errorf("WriteFact(%d, %d) = %q, want %q", cell, value, got, fact)
+			f := NewFact(cell, value, 7)
+			if got := f.Text(); got != fact {
+				t.Errorf("Text of %d, %d = %q, want %q", cell, value, got, fact)
+			}
+			if want := (Fact{int(fact[0] - 'a'), int(fact[1] - '0'), value, 7}); f != want {
+				t.Errorf("NewFact(%d, %d, 7) = %v, want %v", cell, value, f, want)
 			}
 		}
 	}

@@ -11,9 +11,15 @@ import (
 // roomy: an engine without rules, with all the room there may be.
 func roomy(t *testing.T) *precept.Engine {
 	t.Helper()
-	x, e, _ := precept.New("", api.MaxRoom)
+	return ruled(t, "")
+}
+
+// ruled: an engine of these rules, with all the room there may be.
+func ruled(t *testing.T, rules string) *precept.Engine {
+	t.Helper()
+	x, e, _ := precept.New(rules, api.MaxRoom)
 	if e != api.OK {
-		t.Fatalf("P3: New: %d", e)
+		t.Fatalf("P3: New(%q): %d", rules, e)
 	}
 	return x
 }

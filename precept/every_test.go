@@ -3,7 +3,7 @@ package precept_test
 import (
 	"fmt"
 	"maps"
-	"sort"
+	"slices"
 	"strings"
 	"testing"
 
@@ -11,8 +11,12 @@ import (
 	"precept/precept"
 )
 
-// script: calls by a short rule, the same each time for the same seed.
-type script struct{ state uint32 }
+// script: calls by a short rule, the same each time for the same seed. They may
+// be mostly Puts, of few cells and values, so that these go with each other.
+type script struct {
+	state uint32
+	few   bool
+}
 
 func (s *script) pick(n int) int {
 	s.state = s.state*1664525 + 1013904223
@@ -23,6 +27,9 @@ func (s *script) pick(n int) int {
 func (s *script) text(length int) string {
 	cell := string("abcdef"[s.pick(6)]) + string("0123456789"[s.pick(10)])
 	fact := cell + string("0123456789"[s.pick(10)])
+	if s.few {
+		fact = string("aab"[s.pick(3)]) + string("0123"[s.pick(4)]) + string("012"[s.pick(3)])
+	}
 	if s.pick(8) == 0 {
 		return []string{"", "a", "g00", "a3x", "a370", "\xff\xff", strings.Repeat("a", 5000)}[s.pick(7)]
 	}
@@ -31,6 +38,7 @@ func (s *script) text(length int) string {
 
 // model: what the document says of sessions and commits, with all of Go.
 type model struct {
+	rules   string
 	last    int
 	open    map[int]*opened
 	commits []map[string]string // the first one has the stamp 1
@@ -40,6 +48,13 @@ type model struct {
 type opened struct {
 	snapshot int
 	writes   map[string]string
+	order    []string // the cells that were written, one behind the other
+}
+
+// dated: a fact, and its time.
+type dated struct {
+	fact string
+	time int
 }
 
 func (m *model) openOne() string {
@@ -47,7 +62,7 @@ func (m *model) openOne() string {
 		return fmt.Sprint(0, api.ErrOpen)
 	}
 	m.last++
-	m.open[m.last] = &opened{len(m.commits), map[string]string{}}
+	m.open[m.last] = &opened{snapshot: len(m.commits), writes: map[string]string{}}
 	return fmt.Sprint(m.last, api.OK)
 }
 
@@ -60,7 +75,30 @@ func (m *model) write(session int, text string, length int) string {
 		return fmt.Sprint(api.ErrFact)
 	}
 	o.writes[text[:2]] = text[2:]
+	o.order = append(o.order, text[:2])
 	return fmt.Sprint(api.OK)
+}
+
+// sees: the facts that a session sees, in the order of their cells. The times
+// of writes are counted from far above all stamps.
+func (m *model) sees(o *opened) []dated {
+	values, times := map[string]string{}, map[string]int{}
+	for i, commit := range m.commits[:o.snapshot] {
+		for cell, value := range commit {
+			values[cell], times[cell] = value, i+1
+		}
+	}
+	maps.Copy(values, o.writes)
+	for i, cell := range o.order {
+		times[cell] = 1000000 + i
+	}
+	var list []dated
+	for _, cell := range slices.Sorted(maps.Keys(values)) {
+		if values[cell] != "" {
+			list = append(list, dated{cell + values[cell], times[cell]})
+		}
+	}
+	return list
 }
 
 func (m *model) view(session int) string {
@@ -68,19 +106,19 @@ func (m *model) view(session int) string {
 	if !ok {
 		return fmt.Sprint("", api.ErrSession)
 	}
-	facts := map[string]string{}
-	for _, commit := range m.commits[:o.snapshot] {
-		maps.Copy(facts, commit)
+	text := ""
+	for _, d := range m.sees(o) {
+		text += d.fact
 	}
-	maps.Copy(facts, o.writes)
-	var list []string
-	for cell, value := range facts {
-		if value != "" {
-			list = append(list, cell+value)
-		}
+	return fmt.Sprint(text, api.OK)
+}
+
+func (m *model) matches(session int) string {
+	o, ok := m.open[session]
+	if !ok {
+		return fmt.Sprint("", api.ErrSession)
 	}
-	sort.Strings(list)
-	return fmt.Sprint(strings.Join(list, ""), api.OK)
+	return fmt.Sprint(instantiations(m.rules, m.sees(o)), api.OK)
 }
 
 func (m *model) abort(session int) string {
@@ -113,8 +151,11 @@ func (m *model) commit(session int) string {
 
 // step: one call of the script, what the engine answers and what the model does.
 func step(s *script, x *precept.Engine, m *model) (call, got, want string) {
-	session := m.last + 2 - s.pick(12)
-	switch kind := s.pick(18); {
+	session, kind := m.last+2-s.pick(12), s.pick(20)
+	if s.few && s.pick(2) == 0 {
+		session, kind = m.last-s.pick(2), 3
+	}
+	switch {
 	case kind < 3:
 		n, e := x.Open()
 		return "Open", fmt.Sprint(n, e), m.openOne()
@@ -128,6 +169,9 @@ func step(s *script, x *precept.Engine, m *model) (call, got, want string) {
 		v, e := x.View(session)
 		return fmt.Sprintf("View(%d)", session), fmt.Sprint(v, e), m.view(session)
 	case kind < 17:
+		v, e := x.Matches(session)
+		return fmt.Sprintf("Matches(%d)", session), fmt.Sprint(v, e), m.matches(session)
+	case kind < 19:
 		n, e := x.Commit(session)
 		return fmt.Sprintf("Commit(%d)", session), fmt.Sprint(n, e), m.commit(session)
 	}
@@ -141,23 +185,26 @@ func play(t *testing.T, s *script, x *precept.Engine, m *model, calls int) []str
 	for i := 0; i < calls; i++ {
 		call, got, want := step(s, x, m)
 		if got != want {
-			t.Fatalf("P4 to P6: call %d, %.60s = %q, want %q", i, call, got, want)
+			t.Fatalf("P4 to P8: call %d, %.60s = %q, want %q", i, call, got, want)
 		}
 		answers = append(answers, got)
 	}
 	return answers
 }
 
-func newModel() *model { return &model{open: map[int]*opened{}} }
+func newModel(rules string) *model { return &model{rules: rules, open: map[int]*opened{}} }
+
+// someRules: that go with facts of any class, wherever they come from.
+const someRules = "3:axy,bzw>.;5:cx_,!d_x>.;3:ex_,fyz,x<y>.;5:!a__,1#2>.;"
 
 // longest: of so many calls less than MaxRoom are writes, so that there is
 // room for the versions, whatever the script.
 const longest = api.MaxRoom
 
-func TestP1P6ManyCalls(t *testing.T) {
+func TestP1ManyCalls(t *testing.T) {
 	seen := map[string]int{}
 	for seed := uint32(1); seed <= 60; seed++ {
-		for _, answer := range play(t, &script{seed}, roomy(t), newModel(), longest) {
+		for _, answer := range play(t, &script{state: seed}, ruled(t, someRules), newModel(someRules), longest) {
 			seen[answer]++
 		}
 	}
@@ -167,7 +214,7 @@ func TestP1P6ManyCalls(t *testing.T) {
 }
 
 func TestP1NewAtAllTextsAndNumbers(t *testing.T) {
-	s := &script{7}
+	s := &script{state: 7}
 	const bytes = "5:axy,!<=#>+-.;^~_0wz\x00\xff"
 	for i := 0; i < 20000; i++ {
 		text := make([]byte, s.pick(60))
@@ -187,9 +234,10 @@ func TestP1NewAtAllTextsAndNumbers(t *testing.T) {
 }
 
 func TestP2TheSameCallsHaveTheSameAnswers(t *testing.T) {
-	alone := play(t, &script{3}, roomy(t), newModel(), longest)
-	x, y := roomy(t), roomy(t)
-	sx, mx, sy, my := &script{3}, newModel(), &script{4}, newModel()
+	other := "9:axy>.;"
+	alone := play(t, &script{state: 3}, ruled(t, someRules), newModel(someRules), longest)
+	x, y := ruled(t, someRules), ruled(t, other)
+	sx, mx, sy, my := &script{state: 3}, newModel(someRules), &script{state: 4}, newModel(other)
 	for i := range alone {
 		if got := play(t, sx, x, mx, 1); got[0] != alone[i] {
 			t.Fatalf("P2: call %d beside another engine = %q, want %q", i, got[0], alone[i])

@@ -4,6 +4,7 @@ package precept
 import (
 	"precept/api"
 	"precept/cells"
+	"precept/matching"
 	"precept/ruleset"
 	"precept/sessions"
 	"precept/versions"
@@ -94,8 +95,18 @@ func (x *Engine) View(session int) (string, api.Errno) {
 	if s == nil {
 		return "", api.ErrSession
 	}
-	states := x.versions.At(s.Snapshot)
-	return s.View(states), api.OK
+	facts := x.seen(s)
+	text := ""
+	for _, fact := range facts {
+		text += fact.Text()
+	}
+	return text, api.OK
+}
+
+// seen is the facts that a session sees.
+func (x *Engine) seen(s *sessions.Session) []cells.Fact {
+	versions := x.versions.At(s.Snapshot)
+	return s.Sees(versions)
 }
 
 // Abort ends a session (P5).
@@ -127,12 +138,17 @@ func (x *Engine) Commit(session int) (int, api.Errno) {
 	return number, api.OK
 }
 
-// Matches tells the open instantiations (P8). Of these it answers nothing yet.
+// Matches tells the open instantiations (P8). As nothing is fired yet, all are
+// open.
 func (x *Engine) Matches(session int) (string, api.Errno) {
-	if x.find(session) == nil {
+	s := x.find(session)
+	if s == nil {
 		return "", api.ErrSession
 	}
-	return "", api.OK
+	facts := x.seen(s)
+	found := matching.Find(x.rules, facts)
+	ordered := matching.Ordered(found)
+	return matching.Write(ordered), api.OK
 }
 
 // Run fires instantiations (P9). Of these it answers nothing yet.

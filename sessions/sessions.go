@@ -3,12 +3,13 @@ package sessions
 
 import "precept/cells"
 
-// Session is one session: its number, the stamp that is its snapshot, and its
-// last write to each cell. Sessions are numbered from 1 on: the number 0 says
-// that none is open here.
+// Session is one session: its number, the stamp that is its snapshot, how many
+// writes it made, and the last of them to each cell. Sessions are numbered from
+// 1 on: the number 0 says that none is open here.
 type Session struct {
 	Number   int
 	Snapshot int
+	Made     int
 	Writes   [cells.Count]cells.Write
 }
 
@@ -22,35 +23,35 @@ func (s *Session) Clear(cell int) {
 	s.record(cell, cells.State{})
 }
 
+// record counts the times of writes on from the snapshot, as a write is later
+// than every version that the session sees.
 func (s *Session) record(cell int, state cells.State) {
 	if cell < 0 || cell >= len(s.Writes) {
 		return
 	}
-	s.Writes[cell] = cells.Write{Made: true, State: state}
+	s.Made++
+	s.Writes[cell] = cells.Write{Made: true, State: state, Time: s.Snapshot + s.Made}
 }
 
 // HasWrites tells whether the session wrote anything.
 func (s *Session) HasWrites() bool {
-	for cell := 0; cell < len(s.Writes); cell++ {
-		if s.Writes[cell].Made {
-			return true
-		}
-	}
-	return false
+	return s.Made > 0
 }
 
-// View writes the facts that the session sees, in the order of their cells.
-// What the cells have at its snapshot is handed in.
-func (s *Session) View(states [cells.Count]cells.State) string {
-	text := ""
-	for cell := 0; cell < len(states); cell++ {
-		seen := states[cell]
+// Sees is the facts that the session sees, in the order of their cells. The
+// versions that the cells have at its snapshot are handed in.
+func (s *Session) Sees(versions [cells.Count]cells.Version) []cells.Fact {
+	var facts []cells.Fact
+	for cell := 0; cell < len(versions); cell++ {
+		state := versions[cell].State
+		time := versions[cell].Stamp
 		if s.Writes[cell].Made {
-			seen = s.Writes[cell].State
+			state = s.Writes[cell].State
+			time = s.Writes[cell].Time
 		}
-		if seen.Filled {
-			text += cells.WriteFact(cell, seen.Value)
+		if state.Filled {
+			facts = append(facts, cells.NewFact(cell, state.Value, time))
 		}
 	}
-	return text
+	return facts
 }

@@ -1,10 +1,20 @@
 package sessions
 
 import (
+	"fmt"
 	"testing"
 
 	"precept/cells"
 )
+
+// sees: the facts, each with its time.
+func sees(s *Session, versions [cells.Count]cells.Version) string {
+	text := ""
+	for _, fact := range s.Sees(versions) {
+		text += fmt.Sprintf("%s@%d ", fact.Text(), fact.Time)
+	}
+	return text
+}
 
 func TestLastWriteIsSeen(t *testing.T) {
 	var s Session
@@ -15,31 +25,33 @@ func TestLastWriteIsSeen(t *testing.T) {
 	s.Clear(31)
 	s.Clear(7)
 	s.Put(13, 0)
-	if got := s.View([cells.Count]cells.State{}); got != "a02b30f99" {
-		t.Errorf("View = %q", got)
+	if got := sees(&s, [cells.Count]cells.Version{}); got != "a02@3 b30@7 f99@1 " {
+		t.Errorf("Sees = %q", got)
 	}
 }
 
 func TestWritesHideTheSnapshot(t *testing.T) {
-	var s Session
-	var states [cells.Count]cells.State
-	for _, cell := range []int{0, 7, 31, 58} {
-		states[cell] = cells.State{Filled: true, Value: 4}
+	s := Session{Snapshot: 6}
+	var versions [cells.Count]cells.Version
+	for i, cell := range []int{0, 7, 31, 58} {
+		versions[cell] = cells.Version{Stamp: 3 + i, State: cells.State{Filled: true, Value: 4}}
 	}
-	if got := s.View(states); got != "a04a74d14f84" {
-		t.Errorf("View = %q", got)
+	versions[9] = cells.Version{Stamp: 2}
+	if got := sees(&s, versions); got != "a04@3 a74@4 d14@5 f84@6 " {
+		t.Errorf("Sees = %q", got)
 	}
 	s.Put(0, 5)
 	s.Clear(7)
 	s.Clear(8)
 	s.Put(59, 0)
-	if got := s.View(states); got != "a05d14f84f90" {
-		t.Errorf("View = %q", got)
+	if got := sees(&s, versions); got != "a05@7 d14@5 f84@6 f90@10 " {
+		t.Errorf("Sees = %q", got)
 	}
 	s.Put(7, 4)
 	s.Clear(0)
-	if got := s.View(states); got != "a74d14f84f90" {
-		t.Errorf("View = %q", got)
+	s.Put(58, 4)
+	if got := sees(&s, versions); got != "a74@11 d14@5 f84@13 f90@10 " {
+		t.Errorf("Sees = %q", got)
 	}
 }
 

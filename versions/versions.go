@@ -3,17 +3,11 @@ package versions
 
 import "precept/cells"
 
-// version is what one commit wrote to a cell.
-type version struct {
-	stamp int
-	state cells.State
-}
-
 // history is the versions of one cell, in the order of their stamps. The stamp
 // of the last one stands apart, as it counts even if the version is not kept.
 type history struct {
 	last int
-	kept []version
+	kept []cells.Version
 }
 
 // Store is the versions of all cells. Latest is the stamp of the last commit.
@@ -22,23 +16,23 @@ type Store struct {
 	histories [cells.Count]history
 }
 
-// at is what the cell has at a stamp.
-func (h *history) at(stamp int) cells.State {
+// at is the version that the cell has at a stamp.
+func (h *history) at(stamp int) cells.Version {
 	for i := len(h.kept) - 1; i >= 0; i-- {
-		if h.kept[i].stamp <= stamp {
-			return h.kept[i].state
+		if h.kept[i].Stamp <= stamp {
+			return h.kept[i]
 		}
 	}
-	return cells.State{}
+	return cells.Version{}
 }
 
-// At is what all cells have at a stamp.
-func (s *Store) At(stamp int) [cells.Count]cells.State {
-	var states [cells.Count]cells.State
-	for cell := 0; cell < len(states); cell++ {
-		states[cell] = s.histories[cell].at(stamp)
+// At is the versions that all cells have at a stamp.
+func (s *Store) At(stamp int) [cells.Count]cells.Version {
+	var versions [cells.Count]cells.Version
+	for cell := 0; cell < len(versions); cell++ {
+		versions[cell] = s.histories[cell].at(stamp)
 	}
-	return states
+	return versions
 }
 
 // Conflicts tells whether a cell that was written has a version above a stamp.
@@ -56,13 +50,13 @@ func (s *Store) Commit(writes [cells.Count]cells.Write) int {
 	s.Latest++
 	for cell := 0; cell < len(writes); cell++ {
 		if writes[cell].Made {
-			s.histories[cell].add(version{stamp: s.Latest, state: writes[cell].State})
+			s.histories[cell].add(cells.Version{Stamp: s.Latest, State: writes[cell].State})
 		}
 	}
 	return s.Latest
 }
 
-func (h *history) add(v version) {
-	h.last = v.stamp
-	h.kept = append(h.kept, v)
+func (h *history) add(version cells.Version) {
+	h.last = version.Stamp
+	h.kept = append(h.kept, version)
 }

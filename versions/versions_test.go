@@ -1,6 +1,7 @@
 package versions
 
 import (
+	"fmt"
 	"testing"
 
 	"precept/cells"
@@ -17,12 +18,13 @@ func writes(text string) [cells.Count]cells.Write {
 	return list
 }
 
-// facts: those of all cells, one behind the other.
-func facts(states [cells.Count]cells.State) string {
+// facts: those of all cells, one behind the other, with their stamps.
+func facts(versions [cells.Count]cells.Version) string {
 	text := ""
-	for cell, state := range states {
-		if state.Filled {
-			text += cells.WriteFact(cell, state.Value)
+	for cell, version := range versions {
+		if version.State.Filled {
+			fact := cells.NewFact(cell, version.State.Value, 0)
+			text += fmt.Sprintf("%s@%d ", fact.Text(), version.Stamp)
 		}
 	}
 	return text
@@ -31,7 +33,8 @@ func facts(states [cells.Count]cells.State) string {
 func TestEachStampHasItsPicture(t *testing.T) {
 	var s Store
 	commits := []string{"a01f99", "a0.b55", "a02", "c1.", "b56f9.", "f90a03"}
-	pictures := []string{"", "a01f99", "b55f99", "a02b55f99", "a02b55f99", "a02b56", "a03b56f90"}
+	pictures := []string{"", "a01@1 f99@1 ", "b55@2 f99@1 ", "a02@3 b55@2 f99@1 ",
+		"a02@3 b55@2 f99@1 ", "a02@3 b56@5 ", "a03@6 b56@5 f90@6 "}
 	for i, text := range commits {
 		if got := s.Commit(writes(text)); got != i+1 || s.Latest != i+1 {
 			t.Errorf("Commit = %d, latest %d, want %d", got, s.Latest, i+1)
@@ -60,7 +63,7 @@ func TestConflictsAreAboveTheStamp(t *testing.T) {
 			}
 		}
 	}
-	if s.Latest != 3 || facts(s.At(3)) != "a01c11" {
+	if s.Latest != 3 || facts(s.At(3)) != "a01@1 c11@3 " {
 		t.Error("to ask for conflicts changed the versions")
 	}
 }
