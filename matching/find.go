@@ -33,23 +33,46 @@ func (n Instantiation) with(pattern ruleset.Condition, fact cells.Fact) (Instant
 	return n, true
 }
 
-// Find is all instantiations of the rules over some facts. As the facts are in
-// the order of their cells, those of one rule are in the order of their writing.
-func Find(rules []ruleset.Rule, facts []cells.Fact) []Instantiation {
-	var found []Instantiation
+// Open is the open instantiations of the rules over some facts: those that are
+// not remembered as fired. As the facts are in the order of their cells, those
+// of one rule are in the order of their writing.
+func Open(rules []ruleset.Rule, facts []cells.Fact, memory *Memory) []Instantiation {
+	var open []Instantiation
 	for number, rule := range rules {
-		begin := Instantiation{Rule: number, Weight: rule.Weight}
-		own := complete(begin, rule.Conditions, facts)
-		found = append(found, own...)
+		own := complete(number, rule, facts)
+		for _, one := range own {
+			if !memory.Has(one) {
+				open = append(open, one)
+			}
+		}
 	}
-	return found
+	return open
 }
 
-// complete goes along the conditions. A negated pattern or a test may be asked
-// where it stands, as all its variables stand in patterns ahead of it.
-func complete(begin Instantiation, conditions []ruleset.Condition, facts []cells.Fact) []Instantiation {
-	list := []Instantiation{begin}
-	for _, condition := range conditions {
+// First is the first open instantiation in the order, if there is one. Of those
+// with the same weight and latest time it is the one that Open lists first.
+func First(rules []ruleset.Rule, facts []cells.Fact, memory *Memory) (Instantiation, bool) {
+	var first Instantiation
+	found := false
+	for number, rule := range rules {
+		own := complete(number, rule, facts)
+		for _, one := range own {
+			better := !found || ahead(one, first)
+			if better && !memory.Has(one) {
+				first = one
+				found = true
+			}
+		}
+	}
+	return first, found
+}
+
+// complete is all instantiations of a rule: it goes along the conditions. A
+// negated pattern or a test may be asked where it stands, as all its variables
+// stand in patterns ahead of it.
+func complete(number int, rule ruleset.Rule, facts []cells.Fact) []Instantiation {
+	list := []Instantiation{{Rule: number, Weight: rule.Weight}}
+	for _, condition := range rule.Conditions {
 		switch condition.Kind {
 		case ruleset.Pattern:
 			list = extended(list, condition, facts)
@@ -64,9 +87,10 @@ func complete(begin Instantiation, conditions []ruleset.Condition, facts []cells
 
 // extended is each one of a list with each fact that goes with a pattern.
 func extended(list []Instantiation, pattern ruleset.Condition, facts []cells.Fact) []Instantiation {
+	own := ofClass(facts, pattern.Class)
 	var longer []Instantiation
 	for _, one := range list {
-		for _, fact := range facts {
+		for _, fact := range own {
 			next, ok := one.with(pattern, fact)
 			if ok {
 				longer = append(longer, next)
@@ -74,6 +98,17 @@ func extended(list []Instantiation, pattern ruleset.Condition, facts []cells.Fac
 		}
 	}
 	return longer
+}
+
+// ofClass is those of some facts that a pattern of this class may go with.
+func ofClass(facts []cells.Fact, class int) []cells.Fact {
+	var own []cells.Fact
+	for _, fact := range facts {
+		if fact.Class == class {
+			own = append(own, fact)
+		}
+	}
+	return own
 }
 
 // without is those of a list for which no fact goes with a negated pattern.

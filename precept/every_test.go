@@ -12,7 +12,8 @@ import (
 )
 
 // script: calls by a short rule, the same each time for the same seed. They may
-// be mostly Puts, of few cells and values, so that these go with each other.
+// be mostly of the last sessions, and of few cells and values, so that these go
+// with each other.
 type script struct {
 	state uint32
 	few   bool
@@ -48,7 +49,8 @@ type model struct {
 type opened struct {
 	snapshot int
 	writes   map[string]string
-	order    []string // the cells that were written, one behind the other
+	order    []string        // the cells that were written, one behind the other
+	fired    map[string]bool // instantiations, with the times of their facts
 }
 
 // dated: a fact, and its time.
@@ -62,7 +64,7 @@ func (m *model) openOne() string {
 		return fmt.Sprint(0, api.ErrOpen)
 	}
 	m.last++
-	m.open[m.last] = &opened{snapshot: len(m.commits), writes: map[string]string{}}
+	m.open[m.last] = &opened{snapshot: len(m.commits), writes: map[string]string{}, fired: map[string]bool{}}
 	return fmt.Sprint(m.last, api.OK)
 }
 
@@ -118,7 +120,43 @@ func (m *model) matches(session int) string {
 	if !ok {
 		return fmt.Sprint("", api.ErrSession)
 	}
-	return fmt.Sprint(instantiations(m.rules, m.sees(o)), api.OK)
+	return fmt.Sprint(written(m.unfired(o)), api.OK)
+}
+
+// unfired: the open instantiations, in their order.
+func (m *model) unfired(o *opened) []found {
+	all := instantiations(m.rules, m.sees(o))
+	return slices.DeleteFunc(all, func(f found) bool { return o.fired[f.text+f.times] })
+}
+
+func (m *model) run(session, fuel int) string {
+	o, ok := m.open[session]
+	if !ok {
+		return fmt.Sprint(0, 0, api.ErrSession)
+	}
+	if fuel < 0 || fuel > 99 {
+		return fmt.Sprint(0, 0, api.ErrFuel)
+	}
+	for fired := 0; ; fired++ {
+		list := m.unfired(o)
+		if len(list) == 0 {
+			return fmt.Sprint(fired, 1, api.OK)
+		}
+		if fired == fuel {
+			return fmt.Sprint(fired, 2, api.OK)
+		}
+		texts, halts, right := list[0].effects()
+		if !right {
+			return fmt.Sprint(fired, 4, api.OK)
+		}
+		o.fired[list[0].text+list[0].times] = true
+		for _, text := range texts {
+			m.write(session, text, len(text))
+		}
+		if halts {
+			return fmt.Sprint(fired+1, 3, api.OK)
+		}
+	}
 }
 
 func (m *model) abort(session int) string {
@@ -151,9 +189,9 @@ func (m *model) commit(session int) string {
 
 // step: one call of the script, what the engine answers and what the model does.
 func step(s *script, x *precept.Engine, m *model) (call, got, want string) {
-	session, kind := m.last+2-s.pick(12), s.pick(20)
-	if s.few && s.pick(2) == 0 {
-		session, kind = m.last-s.pick(2), 3
+	session, kind := m.last+2-s.pick(12), s.pick(22)
+	if s.few && s.pick(4) > 0 {
+		session, kind = m.last-s.pick(2), []int{3, 3, 3, 3, 3, 3, 9, 17, 17, 17}[s.pick(10)]
 	}
 	switch {
 	case kind < 3:
@@ -172,6 +210,10 @@ func step(s *script, x *precept.Engine, m *model) (call, got, want string) {
 		v, e := x.Matches(session)
 		return fmt.Sprintf("Matches(%d)", session), fmt.Sprint(v, e), m.matches(session)
 	case kind < 19:
+		fuel := []int{-1, 0, 1, 1, 2, 3, 5, 9, 99, 100}[s.pick(10)]
+		n, why, e := x.Run(session, fuel)
+		return fmt.Sprintf("Run(%d, %d)", session, fuel), fmt.Sprint(n, why, e), m.run(session, fuel)
+	case kind < 21:
 		n, e := x.Commit(session)
 		return fmt.Sprintf("Commit(%d)", session), fmt.Sprint(n, e), m.commit(session)
 	}
@@ -185,20 +227,27 @@ func play(t *testing.T, s *script, x *precept.Engine, m *model, calls int) []str
 	for i := 0; i < calls; i++ {
 		call, got, want := step(s, x, m)
 		if got != want {
-			t.Fatalf("P4 to P8: call %d, %.60s = %q, want %q", i, call, got, want)
+			t.Fatalf("P4 to P9: call %d, %.60s = %q, want %q", i, call, got, want)
 		}
 		answers = append(answers, got)
+	}
+	versions := 0
+	for _, commit := range m.commits {
+		versions += len(commit)
+	}
+	if versions > api.MaxRoom {
+		t.Fatalf("%d versions: the script is too long for the room", versions)
 	}
 	return answers
 }
 
 func newModel(rules string) *model { return &model{rules: rules, open: map[int]*opened{}} }
 
-// someRules: that go with facts of any class, wherever they come from.
-const someRules = "3:axy,bzw>.;5:cx_,!d_x>.;3:ex_,fyz,x<y>.;5:!a__,1#2>.;"
+// someRules: that go with facts of any class, wherever they come from, and
+// write such facts.
+const someRules = "3:axy,bzw>+cxw,-bz;5:cx_,!d_x>+dx^x;3:ex_,fyz,x<y>-ex,.;5:!a__,1#2>+a00;"
 
-// longest: of so many calls less than MaxRoom are writes, so that there is
-// room for the versions, whatever the script.
+// longest: so many calls leave room for the versions; play sees to that.
 const longest = api.MaxRoom
 
 func TestP1ManyCalls(t *testing.T) {

@@ -138,25 +138,30 @@ func (x *Engine) Commit(session int) (int, api.Errno) {
 	return number, api.OK
 }
 
-// Matches tells the open instantiations (P8). As nothing is fired yet, all are
-// open.
+// Matches tells the open instantiations (P8).
 func (x *Engine) Matches(session int) (string, api.Errno) {
 	s := x.find(session)
 	if s == nil {
 		return "", api.ErrSession
 	}
 	facts := x.seen(s)
-	found := matching.Find(x.rules, facts)
-	ordered := matching.Ordered(found)
+	open := matching.Open(x.rules, facts, &s.Fired)
+	ordered := matching.Ordered(open)
 	return matching.Write(ordered), api.OK
 }
 
-// Run fires instantiations (P9). Of these it answers nothing yet.
+// Run fires instantiations (P9).
 func (x *Engine) Run(session int, fuel int) (int, int, api.Errno) {
-	if x.find(session) == nil {
+	s := x.find(session)
+	if s == nil {
 		return 0, 0, api.ErrSession
 	}
-	return 0, 0, api.OK
+	if fuel < 0 || fuel > api.MaxFuel {
+		return 0, 0, api.ErrFuel
+	}
+	versions := x.versions.At(s.Snapshot)
+	fired, why := s.Run(x.rules, versions, fuel)
+	return fired, why, api.OK
 }
 
 // Kept tells how many versions are kept (P10).

@@ -1,16 +1,20 @@
-// Package sessions: a session, what it wrote and what it sees.
+// Package sessions: a session, what it wrote, what it sees, and its runs.
 package sessions
 
-import "precept/cells"
+import (
+	"precept/cells"
+	"precept/matching"
+)
 
 // Session is one session: its number, the stamp that is its snapshot, how many
-// writes it made, and the last of them to each cell. Sessions are numbered from
-// 1 on: the number 0 says that none is open here.
+// writes it made, the last of them to each cell, and what it fired. Sessions are
+// numbered from 1 on: the number 0 says that none is open here.
 type Session struct {
 	Number   int
 	Snapshot int
 	Made     int
 	Writes   [cells.Count]cells.Write
+	Fired    matching.Memory
 }
 
 // Put writes a value to a cell.

@@ -79,7 +79,7 @@ func TestCellsThatAreNoneAreLeftAlone(t *testing.T) {
 		s.Put(cell, 5)
 		s.Clear(cell)
 	}
-	if s != (Session{}) {
+	if s.HasWrites() || s.Writes != [cells.Count]cells.Write{} {
 		t.Error("something was written")
 	}
 }
