@@ -1,7 +1,7 @@
 package matching
 
 // Ordered is a list in the order of instantiations. Those of the same weight and
-// latest time stay as they are: Find lists them by rule and by writing already.
+// latest time stay as they are: Open lists them by rule and by writing already.
 func Ordered(list []Instantiation) []Instantiation {
 	if len(list) < 2 {
 		return list

@@ -37,12 +37,20 @@ func (s *script) text(length int) string {
 	return fact[:length]
 }
 
-// model: what the document says of sessions and commits, with all of Go.
+// model: what the document says of sessions and versions, with all of Go.
 type model struct {
 	rules   string
+	room    int
 	last    int
 	open    map[int]*opened
 	commits []map[string]string // the first one has the stamp 1
+	kept    map[version]bool
+}
+
+// version: of a cell, made by the commit of this number.
+type version struct {
+	stamp int
+	cell  string
 }
 
 // opened: an open session. A cell that was emptied has the text "".
@@ -172,88 +180,174 @@ func (m *model) commit(session int) string {
 	if !ok {
 		return fmt.Sprint(0, api.ErrSession)
 	}
-	delete(m.open, session)
 	if len(o.writes) == 0 {
+		delete(m.open, session)
 		return fmt.Sprint(0, api.OK)
 	}
 	for _, commit := range m.commits[o.snapshot:] {
 		for cell := range o.writes {
 			if _, ok := commit[cell]; ok {
+				delete(m.open, session)
 				return fmt.Sprint(0, api.ErrConflict)
 			}
 		}
 	}
+	if len(m.kept)+len(o.writes) > m.room {
+		m.sweep()
+	}
+	if len(m.kept)+len(o.writes) > m.room {
+		return fmt.Sprint(0, api.ErrFull)
+	}
+	delete(m.open, session)
 	m.commits = append(m.commits, o.writes)
+	for cell := range o.writes {
+		m.kept[version{len(m.commits), cell}] = true
+	}
 	return fmt.Sprint(len(m.commits), api.OK)
 }
 
-// step: one call of the script, what the engine answers and what the model does.
-func step(s *script, x *precept.Engine, m *model) (call, got, want string) {
-	session, kind := m.last+2-s.pick(12), s.pick(22)
+func (m *model) sweep() string {
+	oldest := len(m.commits)
+	for _, o := range m.open {
+		oldest = min(oldest, o.snapshot)
+	}
+	dropped := 0
+	for v := range m.kept {
+		empty := m.commits[v.stamp-1][v.cell] == ""
+		if empty && v.stamp <= oldest || !empty && m.until(v) < oldest {
+			delete(m.kept, v)
+			dropped++
+		}
+	}
+	return fmt.Sprint(dropped)
+}
+
+// until: the last stamp at which the cell has this version.
+func (m *model) until(v version) int {
+	for stamp := v.stamp + 1; stamp <= len(m.commits); stamp++ {
+		if _, ok := m.commits[stamp-1][v.cell]; ok {
+			return stamp - 1
+		}
+	}
+	return len(m.commits)
+}
+
+// call: one of an engine or of the model.
+type call struct {
+	name    string
+	session int
+	text    string
+	fuel    int
+}
+
+// next: the next call of the script, the last session being of this number.
+func (s *script) next(last int) call {
+	session, kind := last+2-s.pick(12), s.pick(23)
 	if s.few && s.pick(4) > 0 {
-		session, kind = m.last-s.pick(2), []int{3, 3, 3, 3, 3, 3, 9, 17, 17, 17}[s.pick(10)]
+		session, kind = last-s.pick(2), []int{3, 3, 3, 3, 3, 3, 9, 17, 17, 17}[s.pick(10)]
 	}
 	switch {
 	case kind < 3:
-		n, e := x.Open()
-		return "Open", fmt.Sprint(n, e), m.openOne()
+		return call{name: "Open"}
 	case kind < 9:
-		text := s.text(3)
-		return fmt.Sprintf("Put(%d, %q)", session, text), fmt.Sprint(x.Put(session, text)), m.write(session, text, 3)
+		return call{name: "Put", session: session, text: s.text(3)}
 	case kind < 12:
-		text := s.text(2)
-		return fmt.Sprintf("Clear(%d, %q)", session, text), fmt.Sprint(x.Clear(session, text)), m.write(session, text, 2)
+		return call{name: "Clear", session: session, text: s.text(2)}
 	case kind < 15:
-		v, e := x.View(session)
-		return fmt.Sprintf("View(%d)", session), fmt.Sprint(v, e), m.view(session)
+		return call{name: "View", session: session}
 	case kind < 17:
-		v, e := x.Matches(session)
-		return fmt.Sprintf("Matches(%d)", session), fmt.Sprint(v, e), m.matches(session)
+		return call{name: "Matches", session: session}
 	case kind < 19:
-		fuel := []int{-1, 0, 1, 1, 2, 3, 5, 9, 99, 100}[s.pick(10)]
-		n, why, e := x.Run(session, fuel)
-		return fmt.Sprintf("Run(%d, %d)", session, fuel), fmt.Sprint(n, why, e), m.run(session, fuel)
+		return call{name: "Run", session: session, fuel: []int{-1, 0, 1, 1, 2, 3, 5, 9, 99, 100}[s.pick(10)]}
 	case kind < 21:
-		n, e := x.Commit(session)
-		return fmt.Sprintf("Commit(%d)", session), fmt.Sprint(n, e), m.commit(session)
+		return call{name: "Commit", session: session}
+	case kind < 22:
+		return call{name: "Abort", session: session}
 	}
-	return fmt.Sprintf("Abort(%d)", session), fmt.Sprint(x.Abort(session)), m.abort(session)
+	return call{name: "Sweep"}
 }
 
-// play: the answers of some calls, one behind the other.
+// of: what an engine answers.
+func (c call) of(x *precept.Engine) string {
+	switch c.name {
+	case "Open":
+		return fmt.Sprint(x.Open())
+	case "Put":
+		return fmt.Sprint(x.Put(c.session, c.text))
+	case "Clear":
+		return fmt.Sprint(x.Clear(c.session, c.text))
+	case "View":
+		return fmt.Sprint(x.View(c.session))
+	case "Matches":
+		return fmt.Sprint(x.Matches(c.session))
+	case "Run":
+		return fmt.Sprint(x.Run(c.session, c.fuel))
+	case "Commit":
+		return fmt.Sprint(x.Commit(c.session))
+	case "Abort":
+		return fmt.Sprint(x.Abort(c.session))
+	}
+	return fmt.Sprint(x.Sweep())
+}
+
+// asked: what the document asks for.
+func (c call) asked(m *model) string {
+	switch c.name {
+	case "Open":
+		return m.openOne()
+	case "Put":
+		return m.write(c.session, c.text, 3)
+	case "Clear":
+		return m.write(c.session, c.text, 2)
+	case "View":
+		return m.view(c.session)
+	case "Matches":
+		return m.matches(c.session)
+	case "Run":
+		return m.run(c.session, c.fuel)
+	case "Commit":
+		return m.commit(c.session)
+	case "Abort":
+		return m.abort(c.session)
+	}
+	return m.sweep()
+}
+
+// play: the answers of some calls, one behind the other. Behind each of them
+// as many versions are kept as the document asks for.
 func play(t *testing.T, s *script, x *precept.Engine, m *model, calls int) []string {
 	t.Helper()
 	var answers []string
 	for i := 0; i < calls; i++ {
-		call, got, want := step(s, x, m)
+		c := s.next(m.last)
+		got, want := c.of(x), c.asked(m)
 		if got != want {
-			t.Fatalf("P4 to P9: call %d, %.60s = %q, want %q", i, call, got, want)
+			t.Fatalf("P4 to P11: call %d, %.60v = %q, want %q", i, c, got, want)
+		}
+		if kept := x.Kept(); kept != len(m.kept) {
+			t.Fatalf("P10: behind call %d, %.60v: Kept = %d, want %d", i, c, kept, len(m.kept))
 		}
 		answers = append(answers, got)
-	}
-	versions := 0
-	for _, commit := range m.commits {
-		versions += len(commit)
-	}
-	if versions > api.MaxRoom {
-		t.Fatalf("%d versions: the script is too long for the room", versions)
 	}
 	return answers
 }
 
-func newModel(rules string) *model { return &model{rules: rules, open: map[int]*opened{}} }
+// newModel: of an engine with all the room there may be.
+func newModel(rules string) *model {
+	return &model{rules: rules, room: api.MaxRoom, open: map[int]*opened{}, kept: map[version]bool{}}
+}
 
 // someRules: that go with facts of any class, wherever they come from, and
 // write such facts.
 const someRules = "3:axy,bzw>+cxw,-bz;5:cx_,!d_x>+dx^x;3:ex_,fyz,x<y>-ex,.;5:!a__,1#2>+a00;"
 
-// longest: so many calls leave room for the versions; play sees to that.
-const longest = api.MaxRoom
+// long: so many calls make a script long enough for all kinds of answers.
+const long = 999
 
 func TestP1ManyCalls(t *testing.T) {
 	seen := map[string]int{}
 	for seed := uint32(1); seed <= 60; seed++ {
-		for _, answer := range play(t, &script{state: seed}, ruled(t, someRules), newModel(someRules), longest) {
+		for _, answer := range play(t, &script{state: seed}, ruled(t, someRules), newModel(someRules), long) {
 			seen[answer]++
 		}
 	}
@@ -284,7 +378,7 @@ func TestP1NewAtAllTextsAndNumbers(t *testing.T) {
 
 func TestP2TheSameCallsHaveTheSameAnswers(t *testing.T) {
 	other := "9:axy>.;"
-	alone := play(t, &script{state: 3}, ruled(t, someRules), newModel(someRules), longest)
+	alone := play(t, &script{state: 3}, ruled(t, someRules), newModel(someRules), long)
 	x, y := ruled(t, someRules), ruled(t, other)
 	sx, mx, sy, my := &script{state: 3}, newModel(someRules), &script{state: 4}, newModel(other)
 	for i := range alone {

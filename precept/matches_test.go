@@ -352,7 +352,7 @@ func TestP2MatchesChangesNothing(t *testing.T) {
 	x, y := ruled(t, someRules), ruled(t, someRules)
 	s, m := &script{state: 5}, newModel(someRules)
 	r, n := &script{state: 5}, newModel(someRules)
-	for i := 0; i < longest; i++ {
+	for i := 0; i < long; i++ {
 		for session := -1; session <= m.last+1; session++ {
 			x.Matches(session)
 		}

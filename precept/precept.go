@@ -119,23 +119,39 @@ func (x *Engine) Abort(session int) api.Errno {
 	return api.OK
 }
 
-// Commit ends a session and makes its writes everybody's (P6, P7). How much
-// room there is it does not ask yet.
+// Commit ends a session and makes its writes everybody's (P6, P7, P11). Only
+// without room does the session stay open.
 func (x *Engine) Commit(session int) (int, api.Errno) {
 	s := x.find(session)
 	if s == nil {
 		return 0, api.ErrSession
 	}
-	ended := *s
-	*s = sessions.Session{}
-	if !ended.HasWrites() {
+	if !s.HasWrites() {
+		*s = sessions.Session{}
 		return 0, api.OK
 	}
-	if x.versions.Conflicts(ended.Writes, ended.Snapshot) {
+	if x.versions.Conflicts(s.Writes, s.Snapshot) {
+		*s = sessions.Session{}
 		return 0, api.ErrConflict
 	}
-	number := x.versions.Commit(ended.Writes)
+	written := s.Written()
+	if !x.hasRoom(written) {
+		return 0, api.ErrFull
+	}
+	number := x.versions.Commit(s.Writes)
+	*s = sessions.Session{}
 	return number, api.OK
+}
+
+// hasRoom tells whether there is room for so many versions more. It sweeps only
+// if there is none otherwise, as a sweep changes what Kept answers.
+func (x *Engine) hasRoom(more int) bool {
+	kept := x.versions.Kept()
+	if kept+more <= x.room {
+		return true
+	}
+	dropped := x.Sweep()
+	return kept-dropped+more <= x.room
 }
 
 // Matches tells the open instantiations (P8).
@@ -165,7 +181,24 @@ func (x *Engine) Run(session int, fuel int) (int, int, api.Errno) {
 }
 
 // Kept tells how many versions are kept (P10).
-func (x *Engine) Kept() int { return 0 }
+func (x *Engine) Kept() int {
+	return x.versions.Kept()
+}
 
 // Sweep drops the versions that nobody can see (P10).
-func (x *Engine) Sweep() int { return 0 }
+func (x *Engine) Sweep() int {
+	oldest := x.oldest()
+	return x.versions.Sweep(oldest)
+}
+
+// oldest is the least snapshot of the open sessions, or the latest stamp.
+func (x *Engine) oldest() int {
+	oldest := x.versions.Latest
+	for i := 0; i < len(x.sessions); i++ {
+		isOpen := x.sessions[i].Number > 0
+		if isOpen && x.sessions[i].Snapshot < oldest {
+			oldest = x.sessions[i].Snapshot
+		}
+	}
+	return oldest
+}

@@ -42,6 +42,17 @@ func (s *Session) HasWrites() bool {
 	return s.Made > 0
 }
 
+// Written is how many cells the session wrote to.
+func (s *Session) Written() int {
+	count := 0
+	for cell := 0; cell < len(s.Writes); cell++ {
+		if s.Writes[cell].Made {
+			count++
+		}
+	}
+	return count
+}
+
 // Sees is the facts that the session sees, in the order of their cells. The
 // versions that the cells have at its snapshot are handed in.
 func (s *Session) Sees(versions [cells.Count]cells.Version) []cells.Fact {

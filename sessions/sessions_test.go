@@ -73,6 +73,23 @@ func TestEmptyingIsAWrite(t *testing.T) {
 	}
 }
 
+func TestWrittenCountsEachCellOnce(t *testing.T) {
+	var s Session
+	if n := s.Written(); n != 0 {
+		t.Errorf("Written = %d at first", n)
+	}
+	for cell := 0; cell < cells.Count; cell++ {
+		s.Put(cell, 5)
+		s.Clear(cell)
+		if cell%2 == 0 {
+			s.Put(cell, 5)
+		}
+		if n := s.Written(); n != cell+1 {
+			t.Errorf("Written = %d, want %d", n, cell+1)
+		}
+	}
+}
+
 func TestCellsThatAreNoneAreLeftAlone(t *testing.T) {
 	var s Session
 	for _, cell := range []int{-1, cells.Count, 1 << 62, -1 << 63} {
